@@ -1,0 +1,1 @@
+"""Sandyard: grains that tumble, and heaps that come back."""
