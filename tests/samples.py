@@ -1,4 +1,6 @@
-"""Yards and other things that the tests hand in, and helpers to change them."""
+"""Yards and other things that the tests hand in, helpers to change and draw them, and the document in other words."""
+
+import itertools
 
 # Of 1 to 5 places, with 1 to 4 ties between two.
 YARDS = (
@@ -67,3 +69,54 @@ def changed(thing, path, new):
         return new
     k = path[0]
     return thing[:k] + (changed(thing[k], path[1:], new),) + thing[k + 1:]
+
+
+def drawn_yard(rng, count):
+    """A yard with that many places, drawn: a way to the ditch for each place, and some ties more."""
+    many_of = {(rng.randrange(place), place): rng.randint(1, 4) for place in range(1, count + 1)}
+    for one in range(count + 1):
+        for other in range(one + 1, count + 1):
+            if rng.random() < 0.4:
+                many_of[one, other] = rng.randint(1, 4)
+    # Numbered anew, since the ways above lead from greater to lesser places alone.
+    names = [0] + rng.sample(range(1, count + 1), count)
+    ties = []
+    for (one, other), many in many_of.items():
+        one, other = sorted((names[one], names[other]))
+        ties.append((one, other, many))
+    return (count, tuple(sorted(ties)))
+
+
+def drawn_yards(rng, each):
+    return [drawn_yard(rng, count) for count in range(1, 6) for _ in range(each)]
+
+
+def drawn_grains(rng, yard, most):
+    return tuple(rng.randint(0, most) for _ in range(yard[0]))
+
+
+def told_sizes(yard):
+    """[0.5] by its words, without the program."""
+    told = [0] * (yard[0] + 1)
+    for one, other, many in yard[1]:
+        told[one] += many
+        told[other] += many
+    return tuple(told[1:])
+
+
+def told_tumble(yard, grains, place, often=1):
+    """[2.1] by its words: over each tie of the place goes a grain, whether it has enough or not."""
+    heaps = [0] + list(grains)
+    for one, other, many in yard[1]:
+        if place in (one, other):
+            heaps[place] -= many * often
+            heaps[other if place == one else one] += many * often
+    return tuple(heaps[1:])
+
+
+def told_rests(yard, grains):
+    return all(heap < size for heap, size in zip(grains, told_sizes(yard)))
+
+
+def all_rests(yard):
+    return itertools.product(*(range(size) for size in told_sizes(yard)))

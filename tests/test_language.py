@@ -1,6 +1,8 @@
-"""The plainest rules of LANGUAGE.md, asked of the package's own files."""
+"""The rules of LANGUAGE.md that are easily seen, asked of the package's own files."""
 
 import ast
+import builtins
+import importlib
 import pathlib
 import re
 import unittest
@@ -27,6 +29,16 @@ RULED_OUT = (
     ast.AsyncFunctionDef, ast.AsyncFor, ast.AsyncWith, ast.SetComp, ast.DictComp, ast.GeneratorExp, ast.NamedExpr,
     ast.Starred, ast.Div, ast.Import,
 )
+WALKED = ("zip", "enumerate", "reversed", "range")
+WALKERS = ("list", "tuple", "dict", "sorted", "sum", "any", "all", "enumerate", "zip", "min", "max")
+KEYWORDS = {
+    "sorted": ("key", "reverse"), "min": ("key", "default"), "max": ("key", "default"), "sum": ("start",),
+    "enumerate": ("start",), "zip": ("strict",),
+}
+
+
+def called(node):
+    return node.func.id if isinstance(node, ast.Call) and isinstance(node.func, ast.Name) else None
 
 
 def bound_names(tree):
@@ -109,6 +121,104 @@ class Language(unittest.TestCase):
                 for node in ast.walk(tree):
                     if isinstance(node, ast.Call) and isinstance(node.func, ast.Attribute):
                         self.assertIn(node.func.attr, METHODS | own)
+
+    def test_no_local_is_called_like_something_of_pythons_own_or_of_the_files_imports(self):
+        for name, text, tree in parsed_files():
+            with self.subTest(file=name):
+                taken = set(dir(builtins))
+                for node in tree.body:
+                    if isinstance(node, ast.ImportFrom):
+                        taken.update(alias.name for alias in node.names)
+                    if isinstance(node, ast.ClassDef):
+                        taken.add(node.name)
+                for node in ast.walk(tree):
+                    if isinstance(node, ast.arg):
+                        self.assertNotIn(node.arg, taken)
+                    if isinstance(node, ast.Name) and isinstance(node.ctx, ast.Store):
+                        self.assertNotIn(node.id, taken)
+
+    def test_each_name_is_bound_once_at_the_top(self):
+        for name, text, tree in parsed_files():
+            with self.subTest(file=name):
+                bound = []
+                for node in tree.body:
+                    if isinstance(node, (ast.FunctionDef, ast.ClassDef)):
+                        bound.append(node.name)
+                    elif isinstance(node, ast.ImportFrom):
+                        bound.extend(alias.name for alias in node.names)
+                    elif isinstance(node, ast.Assign):
+                        bound.append(node.targets[0].id)
+                    else:
+                        self.assertIs(node, tree.body[0])
+                        self.assertIsInstance(node, ast.Expr)
+                self.assertEqual(len(bound), len(set(bound)))
+
+    def test_names_come_from_the_file_that_defines_them(self):
+        drawn_from = {}
+        for name, text, tree in parsed_files():
+            drawn_from["sandyard." + name[:-3]] = drawn = []
+            for node in tree.body:
+                if isinstance(node, ast.ImportFrom):
+                    drawn.append(node.module)
+                    for alias in node.names:
+                        with self.subTest(file=name, name=alias.name):
+                            self.assertIsNone(alias.asname)
+                            value = getattr(importlib.import_module(node.module), alias.name)
+                            self.assertEqual(getattr(value, "__module__", node.module), node.module)
+        # Files that draw from no file left are taken away: where two draw from one another, some stay.
+        while drawn_from:
+            free = [file for file, drawn in drawn_from.items() if not set(drawn) & set(drawn_from)]
+            self.assertNotEqual(free, [])
+            for file in free:
+                del drawn_from[file]
+
+    def test_is_stands_beside_none_and_truths_alone(self):
+        for name, text, tree in parsed_files():
+            with self.subTest(file=name):
+                for node in ast.walk(tree):
+                    if isinstance(node, ast.Compare):
+                        for sign, right in zip(node.ops, node.comparators):
+                            if isinstance(sign, (ast.Is, ast.IsNot)):
+                                self.assertIn(ast.unparse(right), ("None", "True", "False"))
+
+    def test_keywords(self):
+        for name, text, tree in parsed_files():
+            with self.subTest(file=name):
+                for node in ast.walk(tree):
+                    if isinstance(node, ast.Call) and (called(node) is None or called(node) in BUILT_IN):
+                        for keyword in node.keywords:
+                            self.assertIn(keyword.arg, KEYWORDS.get(called(node), ()))
+
+    def test_walked_at_once(self):
+        for name, text, tree in parsed_files():
+            with self.subTest(file=name):
+                on_the_spot = []
+                for node in ast.walk(tree):
+                    if isinstance(node, (ast.For, ast.comprehension)):
+                        on_the_spot.append(node.iter)
+                    elif called(node) in WALKERS:
+                        on_the_spot.extend(node.args)
+                for node in ast.walk(tree):
+                    if called(node) in WALKED:
+                        self.assertIn(node, on_the_spot)
+
+    def test_signs_within_texts(self):
+        for name, text, tree in parsed_files():
+            with self.subTest(file=name):
+                for node in ast.walk(tree):
+                    if isinstance(node, ast.Constant) and isinstance(node.value, str):
+                        self.assertNotIn("%", node.value)
+                self.assertIsNone(re.search(r"\\[^nt\\'\"]", text))
+
+    def test_errors_are_made_on_the_spot_and_taken_by_name(self):
+        for name, text, tree in parsed_files():
+            with self.subTest(file=name):
+                for node in ast.walk(tree):
+                    if isinstance(node, ast.Raise):
+                        self.assertIsNotNone(called(node.exc))
+                    if isinstance(node, ast.ExceptHandler):
+                        self.assertIsNotNone(node.type)
+                        self.assertNotIn(ast.unparse(node.type), ("Exception", "TypeError"))
 
 
 if __name__ == "__main__":
