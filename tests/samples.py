@@ -1,5 +1,6 @@
 """Yards and other things that the tests hand in, helpers to change and draw them, and the document in other words."""
 
+import fractions
 import itertools
 
 # Of 1 to 5 places, with 1 to 4 ties between two.
@@ -120,3 +121,116 @@ def told_rests(yard, grains):
 
 def all_rests(yard):
     return itertools.product(*(range(size) for size in told_sizes(yard)))
+
+
+def told_forced(yard, grains, times):
+    for place, often in enumerate(times, start=1):
+        grains = told_tumble(yard, grains, place, often)
+    return grains
+
+
+def told_settled(yard, grains, choose):
+    """[2.2] step by step: of the places that can tumble, the chosen one tumbles once."""
+    limits = told_sizes(yard)
+    times = [0] * yard[0]
+    ready = [k for k in range(yard[0]) if grains[k] >= limits[k]]
+    while ready:
+        k = choose(ready)
+        grains = told_tumble(yard, grains, k + 1)
+        times[k] += 1
+        ready = [k for k in range(yard[0]) if grains[k] >= limits[k]]
+    return (grains, tuple(times))
+
+
+def added(one, other):
+    return tuple(heap + more for heap, more in zip(one, other))
+
+
+def told_burn(yard, grains):
+    """[3.1] by its words: who burns is kept, and the ties to all others are counted anew each turn."""
+    burning = {0}
+    turns = []
+    while True:
+        turn = []
+        for place in range(1, yard[0] + 1):
+            ties = 0
+            for one, other, many in yard[1]:
+                if place in (one, other) and (one + other - place) not in burning:
+                    ties += many
+            if place not in burning and grains[place - 1] >= ties:
+                turn.append(place)
+        if not turn:
+            return tuple(turns)
+        burning.update(turn)
+        turns.append(tuple(turn))
+
+
+def tree_count(yard):
+    """How many trees the yard has, by Kirchhoff's determinant."""
+    rows = [list(told_tumble(yard, (0,) * yard[0], place, -1)) for place in range(1, yard[0] + 1)]
+
+    def determinant(rows):
+        if not rows:
+            return 1
+        rest = [row[1:] for row in rows]
+        return sum((-1) ** k * rows[k][0] * determinant(rest[:k] + rest[k + 1:]) for k in range(len(rows)))
+
+    return determinant(rows)
+
+
+def full_yard(count, many):
+    """A yard with that many ties between each two."""
+    return (count, tuple((one, other, many) for one in range(count + 1) for other in range(one + 1, count + 1)))
+
+
+# Few enough rests that a test can walk them all.
+SMALL_YARDS = YARDS[:6] + YARDS[8:11] + (
+    (2, ((0, 1, 1), (1, 2, 3))), (3, ((0, 1, 2), (0, 3, 1), (1, 2, 3), (2, 3, 1))),
+    (4, ((0, 1, 1), (0, 4, 1), (1, 2, 1), (2, 3, 1), (3, 4, 1))),
+    full_yard(1, 3), full_yard(2, 2), full_yard(2, 4), full_yard(3, 1), full_yard(3, 2), full_yard(4, 1),
+)
+
+
+def told_lasts(yard, grains):
+    """[3.1] by its words: whether they rest, and all places burn."""
+    return told_rests(yard, grains) and sum(len(turn) for turn in told_burn(yard, grains)) == yard[0]
+
+
+def told_lasting(yard):
+    return tuple(grains for grains in all_rests(yard) if told_lasts(yard, grains))
+
+
+def told_times(yard, one, other):
+    """How often each place is forced to tumble to lead from one to other, in fractions, by elimination."""
+    none = (0,) * yard[0]
+    columns = [told_tumble(yard, none, place) for place in range(1, yard[0] + 1)]
+    rows = []
+    for k in range(yard[0]):
+        row = [column[k] for column in columns] + [other[k] - one[k]]
+        rows.append([fractions.Fraction(part) for part in row])
+    for k in range(yard[0]):
+        swap = next(m for m in range(k, yard[0]) if rows[m][k] != 0)
+        rows[k], rows[swap] = rows[swap], rows[k]
+        rows[k] = [part / rows[k][k] for part in rows[k]]
+        for m in range(yard[0]):
+            if m != k:
+                rows[m] = [part - rows[m][k] * less for part, less in zip(rows[m], rows[k])]
+    return tuple(row[-1] for row in rows)
+
+
+def told_alike(yard, one, other):
+    """[3.3] by its words: whether those times are whole numbers."""
+    return all(often.denominator == 1 for often in told_times(yard, one, other))
+
+
+def told_is_calm(yard, grains):
+    """[4.1] by its words: each choice of places, one at least, tumbles at once."""
+    places = range(1, yard[0] + 1)
+    for length in places:
+        for group in itertools.combinations(places, length):
+            left = grains
+            for place in group:
+                left = told_tumble(yard, left, place)
+            if all(left[place - 1] >= 0 for place in group):
+                return False
+    return True

@@ -2,7 +2,7 @@ import itertools
 import random
 import unittest
 
-from samples import YARDS, all_rests, drawn_grains, drawn_yards, told_rests, told_sizes, told_tumble
+from samples import YARDS, all_rests, drawn_grains, drawn_yards, told_burn, told_rests, told_sizes, tree_count
 from sandyard.burning import burn, is_lasting
 from sandyard.errors import NoRest, NoText, NotLasting, NoTumble, NoYard, SandError
 from sandyard.tumbling import settled
@@ -11,25 +11,6 @@ LINE = (2, ((0, 1, 1), (1, 2, 3)))
 RING = (2, ((0, 1, 1), (0, 2, 1), (1, 2, 1)))
 PATH = (5, ((0, 5, 1), (1, 2, 1), (2, 3, 1), (3, 4, 1), (4, 5, 1)))
 STAR = (5, ((0, 1, 1), (0, 2, 2), (0, 3, 3), (0, 4, 4), (0, 5, 1)))
-
-
-def told_burn(yard, grains):
-    """[3.1] by its words: who burns is kept, and the ties to all others are counted anew each turn."""
-    burning = {0}
-    turns = []
-    while True:
-        turn = []
-        for place in range(1, yard[0] + 1):
-            ties = 0
-            for one, other, many in yard[1]:
-                if place in (one, other) and (one + other - place) not in burning:
-                    ties += many
-            if place not in burning and grains[place - 1] >= ties:
-                turn.append(place)
-        if not turn:
-            return tuple(turns)
-        burning.update(turn)
-        turns.append(tuple(turn))
 
 
 def stops_no_group(yard, grains):
@@ -52,19 +33,6 @@ def some_rests(rng, yard, many):
     below = tuple(size - 1 for size in limits)
     drawn = [tuple(rng.randrange(size) for size in limits) for _ in range(many)]
     return [below, (0,) * yard[0]] + drawn
-
-
-def tree_count(yard):
-    """How many trees the yard has, by Kirchhoff's determinant."""
-    rows = [list(told_tumble(yard, (0,) * yard[0], place, -1)) for place in range(1, yard[0] + 1)]
-
-    def determinant(rows):
-        if not rows:
-            return 1
-        rest = [row[1:] for row in rows]
-        return sum((-1) ** k * rows[k][0] * determinant(rest[:k] + rest[k + 1:]) for k in range(len(rows)))
-
-    return determinant(rows)
 
 
 class Burn(unittest.TestCase):

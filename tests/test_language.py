@@ -29,6 +29,11 @@ RULED_OUT = (
     ast.AsyncFunctionDef, ast.AsyncFor, ast.AsyncWith, ast.SetComp, ast.DictComp, ast.GeneratorExp, ast.NamedExpr,
     ast.Starred, ast.Div, ast.Import,
 )
+UNUSED_NAMES = set(
+    "register mro elements open input version_info with_traceback add_note attrgetter breakpoint builtins compile "
+    "copyright credits delattr dir eval exec exit gc getattr globals hasattr help id importlib license locals "
+    "methodcaller os quit setattr super type vars sys __name__ format format_map".split()
+)
 WALKED = ("zip", "enumerate", "reversed", "range")
 WALKERS = ("list", "tuple", "dict", "sorted", "sum", "any", "all", "enumerate", "zip", "min", "max")
 KEYWORDS = {
@@ -209,6 +214,52 @@ class Language(unittest.TestCase):
                     if isinstance(node, ast.Constant) and isinstance(node.value, str):
                         self.assertNotIn("%", node.value)
                 self.assertIsNone(re.search(r"\\[^nt\\'\"]", text))
+
+    def test_names_that_are_not_used(self):
+        for name, text, tree in parsed_files():
+            with self.subTest(file=name):
+                for node in ast.walk(tree):
+                    if isinstance(node, ast.Name):
+                        self.assertNotIn(node.id, UNUSED_NAMES)
+                    elif isinstance(node, ast.Attribute):
+                        self.assertNotIn(node.attr, UNUSED_NAMES)
+
+    def test_values_at_the_top_are_plain(self):
+        for name, text, tree in parsed_files():
+            with self.subTest(file=name):
+                for node in tree.body:
+                    if isinstance(node, ast.Assign):
+                        # Narrower than the rule, but all that the package has.
+                        self.assertIsInstance(node.value, ast.Constant)
+
+    def test_no_annotations_sets_or_powers(self):
+        for name, text, tree in parsed_files():
+            with self.subTest(file=name):
+                for node in ast.walk(tree):
+                    self.assertNotIsInstance(node, (ast.AnnAssign, ast.Set, ast.Pow, ast.Lambda))
+                    self.assertNotIn(called(node), ("set", "frozenset"))
+                    if isinstance(node, ast.FunctionDef):
+                        self.assertIsNone(node.returns)
+                    if isinstance(node, ast.arg):
+                        self.assertIsNone(node.annotation)
+                    if isinstance(node, ast.FormattedValue):
+                        self.assertIsInstance(node.value, ast.Name)
+                        self.assertIsNone(node.format_spec)
+
+    def test_pythons_own_are_called_and_not_kept(self):
+        for name, text, tree in parsed_files():
+            with self.subTest(file=name):
+                called_here = []
+                for node in ast.walk(tree):
+                    if isinstance(node, ast.Call):
+                        called_here.append(node.func)
+                        if called(node) == "isinstance":
+                            called_here.append(node.args[1])
+                    elif isinstance(node, ast.ClassDef):
+                        called_here.extend(node.bases)
+                for node in ast.walk(tree):
+                    if isinstance(node, ast.Attribute) or isinstance(node, ast.Name) and node.id in BUILT_IN:
+                        self.assertIn(node, called_here)
 
     def test_errors_are_made_on_the_spot_and_taken_by_name(self):
         for name, text, tree in parsed_files():

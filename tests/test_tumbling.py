@@ -2,7 +2,8 @@ import itertools
 import random
 import unittest
 
-from samples import HUGE, ODD_THINGS, YARDS, all_rests, drawn_grains, drawn_yards, told_rests, told_sizes, told_tumble
+from samples import HUGE, ODD_THINGS, YARDS, added, all_rests, drawn_grains, drawn_yards
+from samples import told_forced, told_rests, told_settled, told_sizes, told_tumble
 from sandyard.errors import NoRest, NoText, NotLasting, NoTumble, NoYard, SandError
 from sandyard.tumbling import forced, put, rests, settled, tumbled
 
@@ -12,29 +13,6 @@ FEW = ((1, ((0, 1, 2),)), (2, ((0, 1, 1), (0, 2, 1), (1, 2, 1))), (2, ((0, 2, 1)
 
 def many_yards(seed):
     return list(YARDS) + drawn_yards(random.Random(seed), 8)
-
-
-def told_forced(yard, grains, times):
-    for place, often in enumerate(times, start=1):
-        grains = told_tumble(yard, grains, place, often)
-    return grains
-
-
-def told_settled(yard, grains, choose):
-    """[2.2] step by step: of the places that can tumble, the chosen one tumbles once."""
-    limits = told_sizes(yard)
-    times = [0] * yard[0]
-    ready = [k for k in range(yard[0]) if grains[k] >= limits[k]]
-    while ready:
-        k = choose(ready)
-        grains = told_tumble(yard, grains, k + 1)
-        times[k] += 1
-        ready = [k for k in range(yard[0]) if grains[k] >= limits[k]]
-    return (grains, tuple(times))
-
-
-def added(one, other):
-    return tuple(heap + more for heap, more in zip(one, other))
 
 
 class Whole(unittest.TestCase):
